@@ -24,8 +24,12 @@ def share(top, bottom):
     return (top // divisor, bottom // divisor)
 
 
+# What can still divide the sum's top and bottom divides the two bottoms too: looked for there, it is found sooner.
 def added(one, other):
-    return share(one[0] * other[1] + other[0] * one[1], one[1] * other[1])
+    divisor = common_divisor(one[1], other[1])
+    top = one[0] * (other[1] // divisor) + other[0] * (one[1] // divisor)
+    left = common_divisor(top, divisor)
+    return (top // left, one[1] // divisor * (other[1] // left))
 
 
 def lessened(one, other):
@@ -34,14 +38,17 @@ def lessened(one, other):
     return share(one[0] * other[1] - other[0] * one[1], one[1] * other[1])
 
 
+# Each top has no divisor in common with its own bottom: only crosswise is there anything to take out.
 def timed(one, other):
-    return share(one[0] * other[0], one[1] * other[1])
+    first = share(one[0], other[1])
+    second = share(other[0], one[1])
+    return (first[0] * second[0], first[1] * second[1])
 
 
 def parted(one, other):
     if other == NOUGHT:
         raise NoShare("a share is parted by nought")
-    return share(one[0] * other[1], one[1] * other[0])
+    return timed(one, (other[1], other[0]))
 
 
 def is_less(one, other):

@@ -31,6 +31,8 @@ UNUSED_WORDS = re.compile(
     r"\b(type|typing|typing_extensions|enum|Enum|IntEnum|StrEnum|Flag|IntFlag|Generic|Protocol|ABC|ABCMeta|"
     r"namedtuple|NamedTuple|TypedDict|TYPE_CHECKING|abstractmethod)\b|dataclass|overload|contextmanager"
 )
+WALKED = set("zip enumerate reversed range items keys values".split())
+WALKING = set("list tuple dict sorted sum any all enumerate zip".split())
 BUILTINS_OF_ANY_VALUE = set()
 for value in ("", 0, [], (), {}, set(), b""):
     BUILTINS_OF_ANY_VALUE.update(name for name in dir(value) if not name.startswith("__"))
@@ -48,7 +50,7 @@ NODES = (
 def faults(text):
     """The faults of one file's text, each (rule, line)."""
     tree = ast.parse(text)
-    found = faults_of_text(text) + faults_of_top(tree) + faults_of_names(tree)
+    found = faults_of_text(text) + faults_of_top(tree) + faults_of_names(tree) + faults_of_walks(tree)
     for node in ast.walk(tree):
         found += [(rule, getattr(node, "lineno", 0)) for rule in faults_of_node(node, tree)]
     return sorted(set(found))
@@ -128,6 +130,38 @@ def faults_of_names(tree):
     for name, line in methods:
         if name in BUILTINS_OF_ANY_VALUE and name not in OWN_METHODS | {"add", "discard"}:
             found.append(("L26", line))
+    return found
+
+
+def methods_and_values(text):
+    """The names of a file's methods and of the values that its objects are given."""
+    tree = ast.parse(text)
+    values = [
+        node.attr for node in ast.walk(tree) if isinstance(node, ast.Attribute) and isinstance(node.ctx, ast.Store)
+    ]
+    return {method.name for method in methods_of(tree)}, set(values)
+
+
+def is_walked(node, parent):
+    """Whether what zip, items and their like tell is walked on the spot."""
+    if isinstance(parent, (ast.For, ast.comprehension)):
+        return node is parent.iter
+    if not isinstance(parent, ast.Call) or node not in parent.args[:1]:
+        return False
+    if isinstance(parent.func, ast.Attribute):
+        return parent.func.attr == "join" and isinstance(parent.func.value, ast.Constant)
+    alone = isinstance(parent.func, ast.Name) and parent.func.id in {"min", "max"} and len(parent.args) == 1
+    return alone or isinstance(parent.func, ast.Name) and parent.func.id in WALKING
+
+
+def faults_of_walks(tree):
+    found = []
+    for parent in ast.walk(tree):
+        for node in ast.iter_child_nodes(parent):
+            if isinstance(node, ast.Call):
+                name = getattr(node.func, "id", getattr(node.func, "attr", None))
+                if name in WALKED and not is_walked(node, parent):
+                    found.append(("L23", node.lineno))
     return found
 
 

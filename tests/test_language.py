@@ -5,7 +5,7 @@ import ast
 import pathlib
 import unittest
 
-from language import PACKAGE, faults
+from language import PACKAGE, faults, methods_and_values
 
 FOLDER = pathlib.Path(__file__).resolve().parent.parent / PACKAGE
 FILES = sorted(FOLDER.glob("*.py"))
@@ -49,6 +49,16 @@ class TestPackage(unittest.TestCase):
             self.assertTrue(ready, f"in a ring: {sorted(set(drawn) - set(settled))}")
             settled += ready
 
+    def test_no_name_is_a_method_here_and_a_value_there(self):
+        methods, values = set(), set()
+        for path in FILES:
+            more_methods, more_values = methods_and_values(path.read_text(encoding="utf-8"))
+            methods |= more_methods
+            values |= more_values
+        self.assertIn("within", methods)
+        self.assertIn("row", values)
+        self.assertEqual(methods & values, set())
+
 
 class TestFaultsAreSeen(unittest.TestCase):
     """A check that sees nothing would pass every file."""
@@ -81,6 +91,9 @@ class TestFaultsAreSeen(unittest.TestCase):
         ("L19", "def run(a):\n    try:\n        a()\n    except Exception:\n        pass\n"),
         ("L20", "def run(a, b):\n    return a is b\n"),
         ("L21", "def run(a: int):\n    return a\n"),
+        ("L23", "def run(a):\n    return reversed(a)\n"),
+        ("L23", "def run(a, b):\n    a.extend(zip(a, b))\n"),
+        ("L23", "def run(a):\n    b = a.items()\n    return list(b)\n"),
         ("L25", "def run(a):\n    a.sort()\n"),
         ("L27", "def run(a):\n    return 2 ** a\n"),
         ("L27", "X = 'a % b'\n"),

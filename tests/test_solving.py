@@ -7,7 +7,7 @@ from fractions import Fraction
 
 from helping import pair
 from scoreflow.errors import NoEnd, NoGrammar, NoShare, NoText, NoTree, ScoreError
-from scoreflow.solving import solved
+from scoreflow.solving import solved, solved_rows
 
 NOUGHT = (0, 1)
 ONE = (1, 1)
@@ -146,6 +146,14 @@ class TestSolved(SolvingCase):
                         self.assert_no_end(ways, ends)
         self.assertGreater(ended[True], 100)
         self.assertGreater(ended[False], 50)
+
+    def test_several_ends_at_once(self):
+        for size in range(1, 7):
+            for seed in range(10):
+                ways, ends = made_system(size, seed, 3, seed % 4)
+                more = list(reversed(ends))
+                told = solved_rows(ways, [list(both) for both in zip(ends, more)])
+                self.assertEqual(told, [list(both) for both in zip(solved(ways, ends), solved(ways, more))])
 
     def test_long_numbers(self):
         ways = [[(123456789012, 987654321097), (1, 999999999989)], [(999999999988, 999999999989), (1, 10 ** 30)]]
