@@ -54,8 +54,12 @@ def check_rule(rule):
 
 
 def check_symbol(text):
-    if len(text) < 1 or len(text) > MOST_LETTERS or not all([is_letter(sign) for sign in text]):
+    if not is_symbol(text):
         raise NoGrammar(f"{text!r} is no symbol")
+
+
+def is_symbol(text):
+    return 1 <= len(text) <= MOST_LETTERS and all([is_letter(sign) for sign in text])
 
 
 def is_letter(sign):

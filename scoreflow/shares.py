@@ -51,5 +51,18 @@ def parted(one, other):
     return timed(one, (other[1], other[0]))
 
 
+# Of pairs of shares. Lowest terms are looked for at the end alone: for long numbers nothing takes longer than that.
+def sum_of_products(pairs):
+    top = 0
+    bottom = 1
+    for one, other in pairs:
+        if one != NOUGHT and other != NOUGHT:
+            below = one[1] * other[1]
+            divisor = common_divisor(bottom, below)
+            top = top * (below // divisor) + one[0] * other[0] * (bottom // divisor)
+            bottom = bottom // divisor * below
+    return share(top, bottom)
+
+
 def is_less(one, other):
     return one[0] * other[1] < other[0] * one[1]

@@ -1,11 +1,12 @@
 """Sums within: what all trees of a head with the words of a stretch come to."""
 
 from scoreflow.grammar import is_live_body
-from scoreflow.shares import NOUGHT, ONE, added, timed
+from scoreflow.rows import stretches
+from scoreflow.shares import NOUGHT, ONE, added, sum_of_products, timed
 from scoreflow.solving import solved_rows
 
 
-# The sums at a stretch lean on those at shorter ones and, by steps, on one another: the shorter ones come first.
+# The sums at a stretch lean on those at shorter ones and, by steps, on one another.
 class Sums:
     def __init__(self, grammar, row):
         live = grammar.live()
@@ -17,9 +18,8 @@ class Sums:
         self.chains = chains_of(live, [rule for rule in rules if is_step(rule, live)])
         self.known_sums = {}
         self.known_worths = {}
-        for length in range(1, len(row) + 1):
-            for i in range(len(row) - length + 1):
-                self.settle(i, i + length)
+        for i, j in stretches(row):
+            self.settle(i, j)
 
     def within(self, head, i, j):
         return self.known_sums.get((head, i, j), NOUGHT)
@@ -30,9 +30,7 @@ class Sums:
     def settle(self, i, j):
         ends = self.ends_at(i, j)
         for head in self.chains:
-            total = NOUGHT
-            for last in ends:
-                total = added(total, timed(self.chains[head][last], ends[last]))
+            total = sum_of_products([(self.chains[head][last], ends[last]) for last in ends])
             if total != NOUGHT:
                 self.known_sums[(head, i, j)] = total
 
@@ -59,12 +57,12 @@ class Sums:
         return self.known_worths[(body, i, j)]
 
     def sum_of_partings(self, body, i, j):
-        total = NOUGHT
+        pairs = []
         for middle in range(i + 1, j - len(body) + 2):
             worth = self.worth(body[0], i, middle)
             if worth != NOUGHT:
-                total = added(total, timed(worth, self.worth_of_body(body[1:], middle, j)))
-        return total
+                pairs.append((worth, self.worth_of_body(body[1:], middle, j)))
+        return sum_of_products(pairs)
 
 
 # The rules that stand in trees; all others are worth nought everywhere.

@@ -38,20 +38,67 @@ def stretches(row):
             yield i, j
 
 
-def trees_at(grammar, row, head, i, j):
-    """All trees of a head with the words of a stretch, one by one. Only for grammars without rings of steps."""
+def trees_at(grammar, row, head, i, j, most=99, gone=0):
+    """All trees of a head with the words of a stretch, one by one, with at most so many rules to one head in a row
+    over the same stretch. Where there are rings, that is to be few, and these are not all trees."""
     heads = grammar.heads()
     for number, rule in enumerate(grammar.rules()):
-        if rule[0] == head:
+        is_step = len(rule[1]) == 1 and rule[1][0] in heads
+        if rule[0] == head and not (is_step and gone == most):
             for parted in partings(i, j, len(rule[1])):
                 choices = []
                 for symbol, (left, right) in zip(rule[1], parted):
                     if symbol in heads:
-                        choices.append(list(trees_at(grammar, row, symbol, left, right)))
+                        now = gone + 1 if is_step else 0
+                        choices.append(list(trees_at(grammar, row, symbol, left, right, most, now)))
                     else:
                         choices.append([symbol] if row[left:right] == (symbol,) else [])
                 for parts in itertools.product(*choices):
                     yield (number, parts)
+
+
+def worth_of(sums, grammar, row, symbol, i, j):
+    """A symbol's worth by the words of [9], of what the program tells of its heads."""
+    if symbol in grammar.heads():
+        return Fraction(*sums.within(symbol, i, j))
+    return Fraction(1 if row[i:j] == (symbol,) else 0)
+
+
+def nodes_of(tree, i):
+    """A tree's own rule and all rules within it, each with its stretch, where the tree begins at place i."""
+    inner, at = [], i
+    for part in tree[1]:
+        if isinstance(part, str):
+            at += 1
+        else:
+            inner += nodes_of(part, at)
+            at = inner[-1][2]
+    return inner + [(tree[0], i, at)]
+
+
+def sums_from_below(heads, rules, row, rounds):
+    """All sums within, from nought on, put into their rules again and again: the least ones are come near to. The
+    rules' shares are floats here."""
+    known = {}
+    for i, j in sorted(stretches(row), key=lambda stretch: stretch[1] - stretch[0]):
+        steps, fixed = [], dict.fromkeys(heads, 0.0)
+        for head, body, share in rules:
+            if len(body) == 1 and body[0] in heads:
+                steps.append((head, body[0], share))
+            for parted in partings(i, j, len(body)) if len(body) > 1 or body[0] not in heads else ():
+                product = share
+                for symbol, (left, right) in zip(body, parted):
+                    leaf = 1.0 if row[left:right] == (symbol,) else 0.0
+                    product *= known[symbol, left, right] if symbol in heads else leaf
+                fixed[head] += product
+        now = dict.fromkeys(heads, 0.0)
+        for _ in range(rounds):
+            later = dict(fixed)
+            for head, other, share in steps:
+                later[head] += share * now[other]
+            now = later
+        known.update({(head, i, j): now[head] for head in heads})
+    return known
 
 
 class Numbers:
@@ -87,3 +134,8 @@ def made_grammar(seed, heads, words, steps=True):
         for body, weight in zip(bodies, weights):
             rules.append((head, body, pair(Fraction(weight, sum(weights)))))
     return Grammar(heads[0], rules)
+
+
+def made_row(seed, length, symbols):
+    numbers = Numbers(seed)
+    return tuple(numbers.one_of(symbols) for _ in range(length))

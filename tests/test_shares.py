@@ -8,7 +8,7 @@ from fractions import Fraction
 from helping import pair
 from scoreflow import shares
 from scoreflow.errors import NoShare
-from scoreflow.shares import added, is_less, lessened, parted, share, timed
+from scoreflow.shares import added, is_less, lessened, parted, share, sum_of_products, timed
 
 SMALL = sorted({Fraction(top, bottom) for top in range(8) for bottom in range(1, 8)})
 TWELVE = [
@@ -155,6 +155,29 @@ class TestReckoning(ShareCase):
         for name in ("added", "lessened", "timed", "parted", "is_less"):
             arguments = list(inspect.signature(getattr(shares, name)).parameters)
             self.assertEqual(arguments, ["one", "other"], name)
+
+
+class TestSumOfProducts(ShareCase):
+    def test_of_none(self):
+        self.assertEqual(sum_of_products([]), (0, 1))
+
+    def test_of_one(self):
+        for one, other in pairs_of_fractions():
+            self.assert_share(sum_of_products([(pair(one), pair(other))]), one * other, (one, other))
+
+    def test_of_several(self):
+        for many in range(2, 12):
+            rows = (SMALL * 2)[3 * many:4 * many] + TWELVE[:many]
+            pairs = list(zip(rows, rows[::-1])) + list(zip(rows, rows[1:]))
+            total = sum(one * other for one, other in pairs)
+            handed = [(pair(one), pair(other)) for one, other in pairs]
+            before = list(handed)
+            self.assert_share(sum_of_products(handed), total, many)
+            self.assertEqual(handed, before)
+
+    def test_noughts_among_them(self):
+        self.assertEqual(sum_of_products([((0, 1), (1, 2)), ((1, 3), (0, 1)), ((0, 1), (0, 1))]), (0, 1))
+        self.assertEqual(sum_of_products([((0, 1), (1, 7)), ((1, 3), (3, 2)), ((5, 1), (0, 1))]), (1, 2))
 
 
 if __name__ == "__main__":

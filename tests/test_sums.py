@@ -4,7 +4,9 @@ import inspect
 import unittest
 from fractions import Fraction
 
-from helping import Numbers, grammar_of, made_grammar, pair, partings, rules_of, stretches, trees_at
+from helping import (
+    grammar_of, made_grammar, made_row, pair, partings, rules_of, stretches, sums_from_below, trees_at, worth_of,
+)
 from scoreflow.grammar import Grammar
 from scoreflow.sums import Sums
 from scoreflow.trees import share_of
@@ -12,13 +14,6 @@ from scoreflow.trees import share_of
 NOUGHT = (0, 1)
 ONE = (1, 1)
 HALF = (1, 2)
-
-
-def worth_of(sums, grammar, row, symbol, i, j):
-    """A symbol's worth by the words of [9], of what the program tells of its heads."""
-    if symbol in grammar.heads():
-        return Fraction(*sums.within(symbol, i, j))
-    return Fraction(1 if row[i:j] == (symbol,) else 0)
 
 
 def sum_by_rules(sums, grammar, row, head, i, j):
@@ -32,36 +27,6 @@ def sum_by_rules(sums, grammar, row, head, i, j):
                     product *= worth_of(sums, grammar, row, symbol, left, right)
                 total += product
     return total
-
-
-def sums_from_below(grammar, row, rounds):
-    """All sums within, from nought on, put into their rules again and again: the least ones are come near to."""
-    heads = grammar.heads()
-    known = {}
-    for i, j in sorted(stretches(row), key=lambda stretch: stretch[1] - stretch[0]):
-        steps, fixed = [], dict.fromkeys(heads, 0.0)
-        for head, body, (top, bottom) in grammar.rules():
-            if len(body) == 1 and body[0] in heads:
-                steps.append((head, body[0], top / bottom))
-            for parted in partings(i, j, len(body)) if len(body) > 1 or body[0] not in heads else ():
-                product = top / bottom
-                for symbol, (left, right) in zip(body, parted):
-                    leaf = 1.0 if row[left:right] == (symbol,) else 0.0
-                    product *= known[symbol, left, right] if symbol in heads else leaf
-                fixed[head] += product
-        now = dict.fromkeys(heads, 0.0)
-        for _ in range(rounds):
-            later = dict(fixed)
-            for head, other, share in steps:
-                later[head] += share * now[other]
-            now = later
-        known.update({(head, i, j): now[head] for head in heads})
-    return known
-
-
-def made_row(seed, length, symbols):
-    numbers = Numbers(seed)
-    return tuple(numbers.one_of(symbols) for _ in range(length))
 
 
 class SumsCase(unittest.TestCase):
@@ -315,7 +280,8 @@ class TestRings(SumsCase):
             grammar = made_grammar(seed, heads, ["a", "b"])
             row = made_row(seed, 1 + seed % 5, ["a", "b"] + [[], ["x"], [], ["A"]][seed % 4])
             sums = self.assert_holds(grammar, row)
-            near = sums_from_below(grammar, row, 600)
+            rules = [(head, body, top / bottom) for head, body, (top, bottom) in grammar.rules()]
+            near = sums_from_below(heads, rules, row, 600)
             for (head, i, j), least in near.items():
                 self.assertAlmostEqual(float(Fraction(*sums.within(head, i, j))), least, 6, (seed, head, i, j))
             kinds["rings"] += any(body == (head,) for head, body, share in grammar.rules())
