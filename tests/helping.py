@@ -1,9 +1,28 @@
 """What several test files need."""
 
 import itertools
+import unittest
 from fractions import Fraction
 
+from scoreflow.errors import NoEnd, NoGrammar, NoShare, NoText, NoTree, ScoreError
 from scoreflow.grammar import Grammar
+
+
+class Case(unittest.TestCase):
+    def assert_share(self, told):
+        self.assertIs(type(told), tuple)
+        self.assertEqual([type(number) for number in told], [int, int])
+        self.assertGreaterEqual(told[0], 0)
+        self.assertEqual(pair(Fraction(*told)), told)
+
+    def assert_refusal(self, refusal, asked, *handed):
+        """It is refused with just this refusal, which is none of the others."""
+        with self.assertRaises(refusal, msg=handed) as taken:
+            asked(*handed)
+        self.assertIsInstance(taken.exception, ScoreError)
+        self.assertIsInstance(taken.exception, ValueError)
+        others = {NoShare, NoEnd, NoGrammar, NoTree, NoText} - {refusal}
+        self.assertNotIsInstance(taken.exception, tuple(others), handed)
 
 
 def pair(fraction):

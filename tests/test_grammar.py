@@ -4,8 +4,8 @@ import inspect
 import unittest
 from fractions import Fraction
 
-from helping import grammar_of, made_grammar, pair, rules_of
-from scoreflow.errors import NoEnd, NoGrammar, NoShare, NoText, NoTree, ScoreError
+from helping import Case, grammar_of, made_grammar, pair, rules_of
+from scoreflow.errors import NoGrammar
 from scoreflow.grammar import Grammar
 
 ONE = (1, 1)
@@ -23,13 +23,10 @@ def equal_rules(many, head="S"):
     return [(head, (LETTERS[k % 26], LETTERS[k // 26]), pair(Fraction(1, many))) for k in range(many)]
 
 
-class GrammarCase(unittest.TestCase):
+class GrammarCase(Case):
     def assert_refused(self, start, rules, said=None):
-        with self.assertRaises(NoGrammar, msg=said) as taken:
-            Grammar(start, rules)
-        self.assertIsInstance(taken.exception, ScoreError)
-        self.assertIsInstance(taken.exception, ValueError)
-        self.assertNotIsInstance(taken.exception, (NoShare, NoEnd, NoTree, NoText))
+        with self.subTest(said):
+            self.assert_refusal(NoGrammar, Grammar, start, rules)
 
     def assert_taken(self, start, rules, heads):
         grammar = Grammar(start, rules)

@@ -4,8 +4,8 @@ import inspect
 import unittest
 from fractions import Fraction
 
-from helping import Numbers, grammar_of, made_grammar, made_row, nodes_of, pair, rules_of, trees_at
-from scoreflow.errors import NoEnd, NoGrammar, NoShare, NoText, NoTree, ScoreError
+from helping import Case, Numbers, grammar_of, made_grammar, made_row, nodes_of, pair, rules_of, trees_at
+from scoreflow.errors import NoTree
 from scoreflow.grammar import Grammar
 from scoreflow.learning import learnt, likely
 from scoreflow.parts import Parts
@@ -65,7 +65,7 @@ def made_counted(grammar, seed, most):
     return counted
 
 
-class LearningCase(unittest.TestCase):
+class LearningCase(Case):
     def assert_learnt(self, grammar, counted, rules):
         start, before, rows = grammar.start(), grammar.rules(), list(counted)
         found = learnt(grammar, counted)
@@ -86,11 +86,7 @@ class LearningCase(unittest.TestCase):
         return after > before
 
     def assert_refused(self, grammar, counted):
-        with self.assertRaises(NoTree, msg=counted) as taken:
-            learnt(grammar, counted)
-        self.assertIsInstance(taken.exception, ScoreError)
-        self.assertIsInstance(taken.exception, ValueError)
-        self.assertNotIsInstance(taken.exception, (NoShare, NoEnd, NoGrammar, NoText))
+        self.assert_refusal(NoTree, learnt, grammar, counted)
 
 
 class TestLikely(LearningCase):

@@ -4,8 +4,8 @@ import inspect
 import unittest
 from fractions import Fraction
 
-from helping import grammar_of, made_grammar, pair, rules_of
-from scoreflow.errors import NoEnd, NoGrammar, NoShare, NoText, NoTree, ScoreError
+from helping import Case, grammar_of, made_grammar, pair, rules_of
+from scoreflow.errors import NoGrammar, NoText
 from scoreflow.grammar import Grammar
 from scoreflow.learning import learnt
 from scoreflow.notes import read, written
@@ -35,7 +35,7 @@ def equal_rows(many):
     return [f"S 1/{many}: {LETTERS[k % 26]} {LETTERS[k // 26]}" for k in range(many)]
 
 
-class NotesCase(unittest.TestCase):
+class NotesCase(Case):
     def assert_same(self, grammar):
         text = written(grammar)
         self.assertIs(type(text), str)
@@ -47,13 +47,7 @@ class NotesCase(unittest.TestCase):
         self.assertEqual(written(found), text)
 
     def assert_refused(self, refusal, *rows):
-        text = "\n".join(rows)
-        with self.assertRaises(refusal, msg=repr(text)) as taken:
-            read(text)
-        self.assertIsInstance(taken.exception, ScoreError)
-        self.assertIsInstance(taken.exception, ValueError)
-        others = [other for other in (NoShare, NoEnd, NoGrammar, NoTree, NoText) if other is not refusal]
-        self.assertNotIsInstance(taken.exception, tuple(others), repr(text))
+        self.assert_refusal(refusal, read, "\n".join(rows))
 
     def assert_no_rule(self, row):
         """A row that is none of the second form: wherever it stands, and whatever the other rows would make."""

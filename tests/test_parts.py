@@ -5,10 +5,10 @@ import unittest
 from fractions import Fraction
 
 from helping import (
-    grammar_of, made_grammar, made_row, nodes_of, pair, partings, rules_of, stretches, sums_from_below, trees_at,
+    Case, grammar_of, made_grammar, made_row, nodes_of, pair, partings, rules_of, stretches, sums_from_below, trees_at,
     worth_of,
 )
-from scoreflow.errors import NoEnd, NoGrammar, NoShare, NoText, NoTree, ScoreError
+from scoreflow.errors import NoTree
 from scoreflow.grammar import Grammar
 from scoreflow.parts import Parts
 from scoreflow.sums import Sums
@@ -68,13 +68,7 @@ class Told:
         return product
 
 
-class PartsCase(unittest.TestCase):
-    def assert_share(self, told):
-        self.assertIs(type(told), tuple)
-        self.assertEqual([type(number) for number in told], [int, int])
-        self.assertGreaterEqual(told[0], 0)
-        self.assertEqual(pair(Fraction(*told)), told)
-
+class PartsCase(Case):
     def assert_beyond(self, told):
         """The equations of [11]. Over live heads they have one solution alone, since sums within have."""
         whole = (told.grammar.start(), 0, len(told.row))
@@ -152,11 +146,7 @@ class PartsCase(unittest.TestCase):
 
     def assert_refused(self, grammar, row):
         self.assertEqual(Sums(grammar, row).whole(), NOUGHT)
-        with self.assertRaises(NoTree, msg=row) as taken:
-            Parts(grammar, row)
-        self.assertIsInstance(taken.exception, ScoreError)
-        self.assertIsInstance(taken.exception, ValueError)
-        self.assertNotIsInstance(taken.exception, (NoShare, NoEnd, NoGrammar, NoText))
+        self.assert_refusal(NoTree, Parts, grammar, row)
 
 
 class TestBeyond(PartsCase):

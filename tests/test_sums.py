@@ -5,7 +5,7 @@ import unittest
 from fractions import Fraction
 
 from helping import (
-    grammar_of, made_grammar, made_row, pair, partings, rules_of, stretches, sums_from_below, trees_at, worth_of,
+    Case, grammar_of, made_grammar, made_row, pair, partings, rules_of, stretches, sums_from_below, trees_at, worth_of,
 )
 from scoreflow.grammar import Grammar
 from scoreflow.sums import Sums
@@ -29,13 +29,7 @@ def sum_by_rules(sums, grammar, row, head, i, j):
     return total
 
 
-class SumsCase(unittest.TestCase):
-    def assert_share(self, told):
-        self.assertIs(type(told), tuple)
-        self.assertEqual([type(number) for number in told], [int, int])
-        self.assertGreaterEqual(told[0], 0)
-        self.assertEqual(pair(Fraction(*told)), told)
-
+class SumsCase(Case):
     def assert_holds(self, grammar, row):
         """Each sum is what its rules make of the others, and at most 1; of heads that aren't live it is nought."""
         sums = Sums(grammar, row)
